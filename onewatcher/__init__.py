@@ -1,0 +1,1 @@
+"""Onewatcher: claims about long runs, settled by one watcher that keeps the rules."""
