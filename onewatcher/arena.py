@@ -220,10 +220,15 @@ class Arena:
         self._shared = True
         return "ok"
 
+    def opened_for(self, question, height):
+        """A new arena with the same numbers for a question; the chain of a ledger may be of any height."""
+        other = Arena(self._notary, question, 0, self._needed, self._root_stake, self._half_stake, self._window)
+        other._opened = height
+        return other
+
     def copy(self):
         """An independent arena that is equal, with the same notary."""
-        other = Arena(self._notary, self._question, self._opened, self._needed, self._root_stake,
-                      self._half_stake, self._window)
+        other = self.opened_for(self._question, self._opened)
         other._made = _copied(self._made)
         other._rivalled = _copied(self._rivalled)
         other._foremost = _copied(self._foremost)
@@ -266,6 +271,18 @@ class Arena:
     def spans(self):
         """The list of the posted spans, in the order of posting."""
         return list(self._made)
+
+    def _waiting(self, done, is_step):
+        return [span for span in self._made
+                if span in self._rivalled and span not in done and (span[0] == 0) == is_step]
+
+    def unhalved(self):
+        """The list of the rivalled spans that are not halved yet, in the order of posting."""
+        return self._waiting(self._halves, False)
+
+    def unsettled(self):
+        """The list of the rivalled spans of level 0 that are not settled yet, in the order of posting."""
+        return self._waiting(self._settled, True)
 
     def is_posted(self, span):
         """True if the span is posted."""

@@ -1,7 +1,7 @@
-"""The forms of the deeds that an arena handles."""
+"""The deeds that an arena handles: their forms, and how a halving is made."""
 
-from onewatcher.histories import is_opening, is_seal
-from onewatcher.spans import is_span
+from onewatcher.forms import has_parts, word_of
+from onewatcher.histories import is_join, opening
 
 # The kinds of the parts behind the word of each deed.
 _FORMS = {
@@ -15,25 +15,24 @@ _FORMS = {
 }
 
 
-def _is_part(kind, value):
-    if kind == "seal":
-        return is_seal(value)
-    if kind == "span":
-        return is_span(value)
-    if kind == "opening":
-        return is_opening(value)
-    if kind == "openings":
-        return isinstance(value, tuple) and all(is_opening(part) for part in value)
-    return True
-
-
 def is_deed(value):
     """True if any value has the form of a deed."""
-    if not isinstance(value, tuple) or len(value) == 0 or not isinstance(value[0], str):
-        return False
-    if value[0] not in _FORMS:
-        return False
-    kinds = _FORMS[value[0]]
-    if len(value) != len(kinds) + 1:
-        return False
-    return all(_is_part(kind, part) for kind, part in zip(kinds, value[1:]))
+    return has_parts(value, _FORMS.get(word_of(value), None))
+
+
+def _fits(parts, level):
+    """True for the opening of a history of this level: a step at level 0, a join above."""
+    return parts is not None and is_join(parts) == (level > 0)
+
+
+def halving_of(notary, span):
+    """The deed that halves a span, or None if its history or one of the parts does not open as its level asks."""
+    level, _, _, _, history = span
+    join = opening(notary, history)
+    if level == 0 or not is_join(join):
+        return None
+    left = opening(notary, join[1])
+    right = opening(notary, join[2])
+    if not _fits(left, level - 1) or not _fits(right, level - 1):
+        return None
+    return ("halve", span, join, left, right)

@@ -44,6 +44,22 @@ def halves_of(notary, span):
     return split_span(span, join, behind, middle)
 
 
+def seal_halves(notary, top):
+    """Seal what the halves of a span and of all halves below need; returns the lists of the spans of each level."""
+    rows = [[top]]
+    for _ in range(top[0]):
+        row = []
+        for span in rows[-1]:
+            join = opening(notary, span[4])
+            if is_join(join):
+                notary.seal(("behind", span[2], join[1]))
+            halves = halves_of(notary, span)
+            if halves is not None:
+                row.extend(halves)
+        rows.append(row)
+    return rows
+
+
 def are_rivals(one, other):
     """True if two spans differ in the history alone."""
     return one[:4] == other[:4] and one[4] != other[4]
